@@ -1,0 +1,1 @@
+"""Onecurve: the one curve through told points."""
