@@ -5,6 +5,7 @@ numbers are those of LANGUAGE.md.
 """
 
 import ast
+import builtins
 import pathlib
 import re
 import unittest
@@ -114,7 +115,7 @@ class Language(unittest.TestCase):
         for name, tree in trees():
             bound = bound_in(tree)
             for own in bound:
-                self.assertNotIn(own, OWN_NAMES, name)
+                self.assertFalse(hasattr(builtins, own), (name, own))
                 self.assertRegex(own, r"^([A-Za-z][A-Za-z0-9_]*|__init__)$", name)
             methods = [node.name for node in ast.walk(tree) if isinstance(node, ast.FunctionDef)]
             for node in ast.walk(tree):
@@ -122,6 +123,25 @@ class Language(unittest.TestCase):
                     self.assertIn(node.id, list(bound) + OWN_NAMES, name)
                 if isinstance(node, ast.Call) and isinstance(node.func, ast.Attribute):
                     self.assertIn(node.func.attr, METHODS + methods + ["__init__"], name)
+
+    def test_python_own_calls_have_few_keywords(self):  # L22
+        for spot, node in walked():
+            if isinstance(node, ast.Call) and isinstance(node.func, ast.Name):
+                if hasattr(builtins, node.func.id):
+                    for word in node.keywords:
+                        self.assertIn(word.arg, ("key", "reverse", "default", "start", "strict"), spot)
+
+    def test_sets_stand_where_they_may(self):  # L24
+        for spot, node in walked():
+            if isinstance(node, ast.Assign) or isinstance(node, ast.Return):
+                self.assertFalse(isinstance(node.value, ast.Call) and isinstance(node.value.func, ast.Name)
+                                 and node.value.func.id in ("set", "frozenset"), spot)
+
+    def test_walks_are_not_kept(self):  # L23
+        for spot, node in walked():
+            if isinstance(node, ast.Assign) or isinstance(node, ast.Return):
+                self.assertFalse(isinstance(node.value, ast.Call) and isinstance(node.value.func, ast.Name)
+                                 and node.value.func.id in ("zip", "enumerate", "reversed", "range"), spot)
 
     def test_locals_bear_no_name_of_the_files_top(self):  # L15
         for name, tree in trees():
