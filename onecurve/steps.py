@@ -21,19 +21,23 @@ def slopes_in(points):
     return slopes
 
 
+# Row k, from 1 on, of the row ahead of it.
+def next_row(ahead, knots, slopes, k):
+    row = []
+    for j in range(len(knots) - k):
+        if knots[j + k] == knots[j]:
+            row.append(slopes[knots[j]])
+        else:
+            row.append(over(minus(ahead[j + 1], ahead[j]), minus(knots[j + k], knots[j])))
+    return row
+
+
 def table_of(points):
     knots = knots_of(points)
     slopes = slopes_in(points)
-    table = [first_row(points)]
-    for k in range(1, len(knots)):
-        ahead = table[k - 1]
-        row = []
-        for j in range(len(knots) - k):
-            if knots[j + k] == knots[j]:
-                row.append(slopes[knots[j]])
-            else:
-                row.append(over(minus(ahead[j + 1], ahead[j]), minus(knots[j + k], knots[j])))
-        table.append(row)
+    table = []
+    for k in range(len(knots)):
+        table.append(first_row(points) if k == 0 else next_row(table[k - 1], knots, slopes, k))
     return table
 
 

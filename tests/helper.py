@@ -155,6 +155,7 @@ class CurveChecks:
     def check_told_again(self, call, *things):
         """Asked again it is alike, nothing handed in is changed, and what is told is the asker's own."""
         kept = copy.deepcopy(things)
+        things = copy.deepcopy(things)
         told = call(*things)
         first = copy.deepcopy(told)
         self.assertEqual(things, kept)
