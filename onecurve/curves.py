@@ -32,16 +32,21 @@ def curve_over(tops, bottom):
     return curve_of([number_of(top, bottom) for top in tops])
 
 
-# The scale ends one power ahead of what the height is over, so that the nought
-# curve needs no case of its own; the bottom of x makes up for it.
-def height_at(curve, x):
-    bottom = bottom_of(curve)
+# The height times the scale, and the scale, a power of the bottom of x that is alike
+# for lists of one length.
+def whole_height(tops, x):
     height = 0
     scale = 1
-    for top in reversed(tops_over(curve, bottom)):
+    for top in reversed(tops):
         height = height * x[0] + top * scale
         scale = scale * x[1]
-    return number_of(height * x[1], bottom * scale)
+    return (height * x[1], scale)
+
+
+def height_at(curve, x):
+    bottom = bottom_of(curve)
+    told = whole_height(tops_over(curve, bottom), x)
+    return number_of(told[0], bottom * told[1])
 
 
 def number_at(curve, k):
@@ -81,7 +86,7 @@ def slope_of(curve):
     return tuple([times(curve[k], (k, 1)) for k in range(1, len(curve))])
 
 
-# The scale goes as in height_at, with the line in the stead of x.
+# The scale goes as in whole_height, with the line in the stead of x.
 def with_line(curve, a, b):
     under = bottom_of([b, a])
     line = tops_over([b, a], under)

@@ -5,7 +5,7 @@ each with room for one number more than there are places: only what stands betwe
 them matters, so no bottom is needed.
 """
 
-from onecurve.curves import bottom_of, curve_over
+from onecurve.curves import bottom_of, curve_over, whole_height
 from onecurve.errors import NoPoints
 from onecurve.numbers import common_measure
 from onecurve.points import check_places
@@ -22,20 +22,10 @@ def rising(places):
     return sorted(places, key=lambda place: place[0] * (bottom // place[1]))
 
 
-# What the numbers come to at x, times a power of the bottom of x that is alike for
-# lists of one length.
-def whole_height(tops, x):
-    height = 0
-    scale = 1
-    for top in reversed(tops):
-        height = height * x[0] + top * scale
-        scale = scale * x[1]
-    return height
-
-
+# Both curves have room for as many numbers, so their heights are of one scale.
 def lack_at(pair, x, y):
     room = len(pair) // 2
-    return y[1] * whole_height(pair[:room], x) - y[0] * whole_height(pair[room:], x)
+    return y[1] * whole_height(pair[:room], x)[0] - y[0] * whole_height(pair[room:], x)[0]
 
 
 # The last number of either curve is still 0, so what is shifted out of the one into

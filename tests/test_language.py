@@ -115,7 +115,7 @@ class Language(unittest.TestCase):
         for name, tree in trees():
             bound = bound_in(tree)
             for own in bound:
-                self.assertFalse(hasattr(builtins, own), (name, own))
+                self.assertNotIn(own, vars(builtins), name)
                 self.assertRegex(own, r"^([A-Za-z][A-Za-z0-9_]*|__init__)$", name)
             methods = [node.name for node in ast.walk(tree) if isinstance(node, ast.FunctionDef)]
             for node in ast.walk(tree):
@@ -127,7 +127,7 @@ class Language(unittest.TestCase):
     def test_python_own_calls_have_few_keywords(self):  # L22
         for spot, node in walked():
             if isinstance(node, ast.Call) and isinstance(node.func, ast.Name):
-                if hasattr(builtins, node.func.id):
+                if node.func.id in vars(builtins):
                     for word in node.keywords:
                         self.assertIn(word.arg, ("key", "reverse", "default", "start", "strict"), spot)
 
